@@ -1,0 +1,1 @@
+"""Ovalfield: a plane with few points, and its curves."""
