@@ -1,6 +1,7 @@
 """Holds the package's files to those rules of LANGUAGE.md that can be seen in a file's tree.
 
-What a rule asks beyond that (L11, L15, L18, L19, L22 to L24, L28 in part) is left to the reader.
+What a rule asks beyond that (L11, L15, L18, L23, L28 in part) is left to the reader. Where a rule allows more than the
+package needs (sets, Python's own errors), the narrower is held here.
 """
 
 import ast
@@ -37,6 +38,13 @@ append clear copy count endswith extend find get index insert isalnum isalpha is
 items join keys ljust lower lstrip partition pop remove replace reverse rfind rjust rpartition rsplit rstrip
 setdefault split splitlines startswith strip update upper values zfill bit_length
 """.split())
+WALKED = {"zip", "enumerate", "reversed", "range", "items", "keys", "values"}
+WALKERS = {"list", "tuple", "dict", "sorted", "sum", "any", "all", "enumerate", "zip", "min", "max"}
+KEYWORDS = {
+    "sorted": {"key", "reverse"}, "min": {"key", "default"}, "max": {"key", "default"}, "sum": {"start"},
+    "enumerate": {"start"}, "zip": {"strict"},
+}
+KINDS = {"int", "str", "bool", "list", "tuple", "dict"}
 
 
 def tree_of(path):
@@ -193,6 +201,81 @@ class TestLanguage(unittest.TestCase):
                 methods |= set(own)
             values |= {node.attr for node in nodes_of(path, ast.Attribute) if isinstance(node.ctx, ast.Store)}
         self.assertEqual(methods & values, set())
+
+    def test_nothing_is_annotated(self):
+        for path in FILES:
+            for node in nodes_of(path, ast.FunctionDef):
+                self.assertIsNone(node.returns, (path, node.name))
+            for node in nodes_of(path, ast.arg):
+                self.assertIsNone(node.annotation, (path, node.lineno))
+
+    def test_is_stands_beside_none_and_truths_alone(self):
+        for path in FILES:
+            for node in nodes_of(path, ast.Compare):
+                for left, operator, right in zip([node.left] + node.comparators, node.ops, node.comparators):
+                    if isinstance(operator, (ast.Is, ast.IsNot)):
+                        beside = [side.value for side in (left, right) if isinstance(side, ast.Constant)]
+                        self.assertTrue(any(value in (None, True, False) for value in beside), (path, node.lineno))
+
+    def test_errors_are_the_programs_own_and_made_on_the_spot(self):
+        errors = top_names(PACKAGE / "errors.py")
+        for path in FILES:
+            for node in nodes_of(path, ast.Raise):
+                self.assertIsInstance(node.exc, ast.Call, (path, node.lineno))
+                self.assertIn(node.exc.func.id, errors, (path, node.lineno))
+            for node in nodes_of(path, ast.ExceptHandler):
+                self.assertIsInstance(node.type, ast.Name, (path, node.lineno))
+                self.assertIn(node.type.id, errors, (path, node.lineno))
+
+    def test_python_s_own_are_called_and_not_kept(self):
+        for path in FILES:
+            called, beside = set(), set()
+            for node in nodes_of(path, ast.Call):
+                called.add(node.func)
+                if isinstance(node.func, ast.Name) and node.func.id == "isinstance":
+                    beside |= set(node.args[1].elts if isinstance(node.args[1], ast.Tuple) else [node.args[1]])
+                    self.assertTrue(all(kind.id in KINDS | bound_names(path) for kind in beside), (path, node.lineno))
+                if isinstance(node.func, ast.Name) and node.func.id in BUILT_IN:
+                    named = {keyword.arg for keyword in node.keywords}
+                    self.assertLessEqual(named, KEYWORDS.get(node.func.id, set()), (path, node.lineno))
+                    beside |= {keyword.value for keyword in node.keywords if keyword.arg == "key"}
+                if isinstance(node.func, ast.Attribute) and node.func.attr in METHODS:
+                    self.assertEqual(node.keywords, [], (path, node.lineno))
+            # Each call of ast.parse makes new nodes, so the tree is walked by names and places.
+            places = {(node.lineno, node.col_offset) for node in called | beside}
+            bases = {base.id for node in nodes_of(path, ast.ClassDef) for base in node.bases}
+            for node in nodes_of(path, ast.Name):
+                if node.id in BUILT_IN and node.id not in bases:
+                    self.assertIn((node.lineno, node.col_offset), places, (path, node.lineno))
+            for node in nodes_of(path, ast.Attribute):
+                if node.attr in METHODS:
+                    self.assertIn((node.lineno, node.col_offset), places, (path, node.lineno))
+
+    def test_walked_on_the_spot(self):
+        for path in FILES:
+            walked = set()
+            for node in nodes_of(path, ast.For, ast.comprehension, ast.Call):
+                if isinstance(node, (ast.For, ast.comprehension)):
+                    walked.add((node.iter.lineno, node.iter.col_offset))
+                elif isinstance(node.func, ast.Name) and node.func.id in WALKERS:
+                    walked |= {(thing.lineno, thing.col_offset) for thing in node.args[:1]}
+            for node in nodes_of(path, ast.Call):
+                name = node.func.id if isinstance(node.func, ast.Name) else getattr(node.func, "attr", None)
+                if name in WALKED:
+                    self.assertIn((node.lineno, node.col_offset), walked, (path, node.lineno))
+
+    def test_no_sets(self):
+        for path in FILES:
+            self.assertEqual(nodes_of(path, ast.Set), [], path)
+            self.assertFalse({node.id for node in nodes_of(path, ast.Name)} & {"set", "frozenset"}, path)
+
+    def test_lists_and_dicts_of_a_file_s_top_hold_none(self):
+        for path in FILES:
+            for node in tree_of(path).body:
+                if isinstance(node, ast.Assign):
+                    self.assertIsInstance(node.targets[0], ast.Name, path)
+                    inner = [part for part in ast.walk(node.value) if part is not node.value]
+                    self.assertFalse([part for part in inner if isinstance(part, (ast.List, ast.Dict))], path)
 
     def test_words_that_stand_nowhere(self):
         for path in FILES:
