@@ -17,6 +17,11 @@ SMALL = tuple(range(26)) + (100, 999, 1155, 123456789, 10 ** 18, 10 ** 30 + 7)
 
 NATURAL = SMALL + GREAT
 
+# A frame by every prime; led by tables it gives all the others.
+FRAME = [(1, 0, 0), (0, 1, 0), (0, 0, 1), (1, 1, 1)]
+
+SORTS = ("point", "twice", "lines", "whole")
+
 # The table that leads each point to itself, by every prime.
 EVEN = ((1, 0, 0), (0, 1, 0), (0, 0, 1))
 
@@ -130,3 +135,67 @@ class Draws:
             if measured(p, rows) != 0:
                 nine = form(p, sum(rows, ()))
                 return (nine[:3], nine[3:6], nine[6:])
+
+    def frame(self, p):
+        table = self.table(p)
+        return [led_by(p, table, point) for point in FRAME]
+
+    def unlike(self, p, count):
+        return self.mixed(all_triples(p))[:count]
+
+    def curve(self, p, sort):
+        """A curve of that sort, built of lines and so without asking the program."""
+        rows = self.table(p)
+        if sort == "point":
+            # n is no square, so the value is nought only where both lines are.
+            n = [n for n in range(p) if all(t * t % p != n for t in range(p))][0]
+            return form(p, added(multiplied(rows[0], rows[0]), multiplied(rows[1], rows[1]), -n))
+        if sort == "twice":
+            return form(p, multiplied(rows[0], rows[0]))
+        if sort == "lines":
+            return form(p, multiplied(rows[0], rows[1]))
+        return form(p, added(multiplied(rows[1], rows[1]), multiplied(rows[0], rows[2]), -1))
+
+
+def multiplied(one, other):
+    """The six numbers of the curve that is two lines."""
+    return [one[i] * other[i] for i in range(3)] + [
+        one[i] * other[j] + one[j] * other[i] for i, j in ((0, 1), (0, 2), (1, 2))
+    ]
+
+
+def added(one, other, factor):
+    return [a + factor * b for a, b in zip(one, other)]
+
+
+def value_by(p, curve, point):
+    a, b, c, d, e, f = curve
+    x, y, z = point
+    return (a * x * x + b * y * y + c * z * z + d * x * y + e * x * z + f * y * z) % p
+
+
+def curve_points(p, curve):
+    return [point for point in all_triples(p) if value_by(p, curve, point) == 0]
+
+
+def twice_rows(p, curve):
+    a, b, c, d, e, f = curve
+    return tuple(tuple(n % p for n in row) for row in ((2 * a, d, e), (d, 2 * b, f), (e, f, 2 * c)))
+
+
+def is_curve(p, thing):
+    return is_row(p, thing, 6) and any(thing) and form(p, thing) == thing
+
+
+def all_curves(p):
+    return [six for six in itertools.product(range(p), repeat=6) if [n for n in six if n][:1] == [1]]
+
+
+def curves_of_all_sorts(p, many):
+    """So many of each sort, each with the sort's name."""
+    draws = Draws(60 + p)
+    return [(sort, draws.curve(p, sort)) for sort in SORTS for turn in range(many)]
+
+
+def whole_curves(p, many):
+    return [(0, 1, 0, 0, p - 1, 0)] + [curve for sort, curve in curves_of_all_sorts(p, many) if sort == "whole"]

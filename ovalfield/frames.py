@@ -1,0 +1,30 @@
+"""Frames of four points, and the move that leads one frame to another."""
+
+from ovalfield.errors import NoCount, OnLine
+from ovalfield.joins import first_three, measure
+from ovalfield.tables import after, columns, table_back, table_of
+
+
+def scaled(factor, point):
+    return [factor * number for number in point]
+
+
+def frame_table(p, four):
+    """The table that leads (1, 0, 0), (0, 1, 0), (0, 0, 1) and (1, 1, 1) to the four points."""
+    # By these factors the first three add up to a multiple of the fourth one.
+    sides = (
+        scaled(measure(p, four[3], four[1], four[2]), four[0]),
+        scaled(measure(p, four[0], four[3], four[2]), four[1]),
+        scaled(measure(p, four[0], four[1], four[3]), four[2]),
+    )
+    return table_of(p, columns(sides))
+
+
+def frame_move(p, four, goals):
+    if len(four) != 4 or len(goals) != 4:
+        raise NoCount("a frame has four points")
+    for points in (four, goals):
+        three = first_three(p, points)
+        if three is not None:
+            raise OnLine(three)
+    return after(p, frame_table(p, goals), table_back(p, frame_table(p, four)))

@@ -1,0 +1,37 @@
+"""The four kinds of curves."""
+
+from ovalfield.curves import is_whole, plain_curve, points_of, twice_table
+from ovalfield.frames import frame_move
+from ovalfield.joins import join, on
+from ovalfield.poles import frame_on
+from ovalfield.tables import sums_by
+
+
+def whole_move(p, curve, points):
+    plain = plain_curve(p)
+    return frame_move(p, frame_on(p, plain, points_of(p, plain)[:3]), frame_on(p, curve, points[:3]))
+
+
+def crossing(p, curve, points):
+    """The point that two lines have in common, of a curve that is these."""
+    rows = twice_table(p, curve)
+    return [point for point in points if not any(sums_by(p, rows, point))][0]
+
+
+def two_lines(p, curve, points):
+    middle = crossing(p, curve, points)
+    one = join(p, middle, [point for point in points if point != middle][0])
+    other = join(p, middle, [point for point in points if not on(p, point, one)][0])
+    return sorted([one, other])
+
+
+def kind(p, curve):
+    points = points_of(p, curve)
+    if is_whole(p, curve):
+        return ("whole", whole_move(p, curve, points))
+    if len(points) == 1:
+        return ("point", points[0])
+    if len(points) == p + 1:
+        return ("twice", join(p, points[0], points[1]))
+    lines = two_lines(p, curve, points)
+    return ("lines", lines[0], lines[1])
