@@ -1,7 +1,7 @@
 """Frames of four points, and the move that leads one frame to another."""
 
-from ovalfield.errors import NoCount, OnLine
-from ovalfield.joins import first_three, measure
+from ovalfield.errors import NoCount
+from ovalfield.joins import ask_no_three, measure
 from ovalfield.tables import after, columns, table_back, table_of
 
 
@@ -23,8 +23,6 @@ def frame_table(p, four):
 def frame_move(p, four, goals):
     if len(four) != 4 or len(goals) != 4:
         raise NoCount("a frame has four points")
-    for points in (four, goals):
-        three = first_three(p, points)
-        if three is not None:
-            raise OnLine(three)
+    ask_no_three(p, four)
+    ask_no_three(p, goals)
     return after(p, frame_table(p, goals), table_back(p, frame_table(p, four)))

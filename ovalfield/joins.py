@@ -1,5 +1,6 @@
 """Joins of points, meets of lines, and what lies on one line."""
 
+from ovalfield.errors import Alike, OnLine
 from ovalfield.rests import rest
 from ovalfield.triples import crossed, lies, one_form
 
@@ -32,6 +33,18 @@ def first_three(p, points):
                 if measure(p, one, points[j], points[k]) == 0:
                     return (one, points[j], points[k])
     return None
+
+
+def ask_unlike(points):
+    for place, point in enumerate(points):
+        if point in points[:place]:
+            raise Alike(point)
+
+
+def ask_no_three(p, points):
+    three = first_three(p, points)
+    if three is not None:
+        raise OnLine(three)
 
 
 def triples(p):

@@ -107,6 +107,40 @@ def led_by(p, rows, point):
     return form(p, sums(p, rows, point))
 
 
+def joined(p, one, other):
+    """The line of two unlike points, or the point of two unlike lines, found by trying."""
+    return [triple for triple in all_triples(p) if lies(p, one, triple) and lies(p, other, triple)][0]
+
+
+def fits(p, points):
+    """The points not in the set that with two of it are never on a line."""
+    pairs = list(itertools.combinations(points, 2))
+    return [
+        point for point in all_triples(p)
+        if point not in points and all(measured(p, (one, other, point)) for one, other in pairs)
+    ]
+
+
+def rank(p, rows):
+    """How many of the rows are no sum of multiples of others, by clearing one column after another."""
+    left, found = [list(row) for row in rows], 0
+    for place in range(len(rows[0])):
+        lead = next((row for row in left if row[place] % p), None)
+        if lead is None:
+            continue
+        left.remove(lead)
+        found += 1
+        over = pow(lead[place], p - 2, p)
+        left = [[(n - row[place] * over * m) % p for n, m in zip(row, lead)] for row in left]
+    return found
+
+
+def second_rank(point):
+    """What stands by the six numbers of a curve in its value at the point."""
+    x, y, z = point
+    return (x * x, y * y, z * z, x * y, x * z, y * z)
+
+
 class Draws:
     """Numbers that are the same in every run: each from the one before."""
 
@@ -142,6 +176,13 @@ class Draws:
 
     def unlike(self, p, count):
         return self.mixed(all_triples(p))[:count]
+
+    def arc(self, p, count):
+        """Up to so many points without three on a line, put in one by one as long as one fits."""
+        told = []
+        while len(told) < count and fits(p, told):
+            told.append(self.chosen(fits(p, told)))
+        return told
 
     def curve(self, p, sort):
         """A curve of that sort, built of lines and so without asking the program."""
