@@ -1,15 +1,9 @@
 """The four kinds of curves."""
 
 from ovalfield.curves import is_whole, plain_curve, points_of, twice_table
-from ovalfield.frames import frame_move
 from ovalfield.joins import join, on
-from ovalfield.poles import frame_on
+from ovalfield.keeping import curve_move
 from ovalfield.tables import sums_by
-
-
-def whole_move(p, curve, points):
-    plain = plain_curve(p)
-    return frame_move(p, frame_on(p, plain, points_of(p, plain)[:3]), frame_on(p, curve, points[:3]))
 
 
 def crossing(p, curve, points):
@@ -26,9 +20,9 @@ def two_lines(p, curve, points):
 
 
 def kind(p, curve):
-    points = points_of(p, curve)
     if is_whole(p, curve):
-        return ("whole", whole_move(p, curve, points))
+        return ("whole", curve_move(p, plain_curve(p), curve))
+    points = points_of(p, curve)
     if len(points) == 1:
         return ("point", points[0])
     if len(points) == p + 1:

@@ -2,7 +2,7 @@
 
 from ovalfield.curves import is_whole, twice_table, value
 from ovalfield.errors import NotWhole
-from ovalfield.joins import join, points_on
+from ovalfield.joins import points_on
 from ovalfield.tables import led, table_back, table_of
 
 # By the number of the curve's points on a point's polar.
@@ -39,9 +39,3 @@ def tangents(p, curve, point):
 
 def side(p, curve, point):
     return SIDES[len(met_by(p, curve, polar(p, curve, point)))]
-
-
-def frame_on(p, curve, three):
-    """A frame of three of a whole curve's points: the first two, the meet of their tangents, the third."""
-    # No other curve goes through the three and has these two tangents.
-    return [three[0], three[1], pole(p, curve, join(p, three[0], three[1])), three[2]]

@@ -20,6 +20,12 @@ NATURAL = SMALL + GREAT
 # A frame by every prime; led by tables it gives all the others.
 FRAME = [(1, 0, 0), (0, 1, 0), (0, 0, 1), (1, 1, 1)]
 
+# By 7 and by 11 sets without three on a line that are smaller than a curve and to which no point can be put.
+SHUT = {
+    7: [(0, 0, 1), (0, 1, 0), (1, 0, 0), (1, 1, 1), (1, 2, 3), (1, 3, 4)],
+    11: [(0, 0, 1), (0, 1, 0), (1, 0, 0), (1, 1, 1), (1, 2, 3), (1, 3, 2), (1, 4, 5), (1, 5, 4)],
+}
+
 SORTS = ("point", "twice", "lines", "whole")
 
 # The table that leads each point to itself, by every prime.

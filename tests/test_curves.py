@@ -99,14 +99,14 @@ class TestValue(unittest.TestCase):
 
 class TestPointsOf(unittest.TestCase):
     def test_just_those_with_the_value_nought(self):
-        counts = {"point": lambda p: 1, "twice": lambda p: p + 1, "lines": lambda p: 2 * p + 1, "whole": lambda p: p + 1}
         for p in PRIMES:
+            counts = {"point": 1, "twice": p + 1, "lines": 2 * p + 1, "whole": p + 1}
             for sort, curve in curves_of_all_sorts(p, 40):
                 told = points_of(p, curve)
                 self.assertIs(type(told), list)
                 self.assertEqual(told, curve_points(p, curve))
                 self.assertEqual(told, sorted(told))
-                self.assertEqual(len(told), counts[sort](p))
+                self.assertEqual(len(told), counts[sort])
 
     def test_no_curve_is_without_a_point(self):
         for curve in all_curves(3):

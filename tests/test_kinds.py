@@ -85,7 +85,8 @@ class TestKind(unittest.TestCase):
             word, one, other = told
             self.assertLess(one, other)
             self.assertTrue(is_triple(p, one) and is_triple(p, other))
-            self.assertEqual(points, [point for point in all_triples(p) if lies(p, point, one) or lies(p, point, other)])
+            on_one = [point for point in all_triples(p) if lies(p, point, one) or lies(p, point, other)]
+            self.assertEqual(points, on_one)
         else:
             table = told[1]
             self.assertEqual(told, ("whole", table))
