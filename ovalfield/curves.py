@@ -49,7 +49,7 @@ def is_whole(p, curve):
 
 
 def mixed(p, curve, one, other):
-    """What stands by x * y in the curve's value at x times the one and y times the other."""
+    # So much stands by x * y in the curve's value at x times the one and y times the other.
     sums = sums_by(p, twice_table(p, curve), one)
     return sums[0] * other[0] + sums[1] * other[1] + sums[2] * other[2]
 

@@ -29,7 +29,6 @@ def rests_of_row(p, words):
 
 
 def told_by(p, rests):
-    """The triple of three rests, the curve of six, of none nothing."""
     if len(rests) == 3:
         return one_form(p, rests)
     if len(rests) == 6:

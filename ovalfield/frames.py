@@ -10,8 +10,8 @@ def scaled(factor, point):
 
 
 def frame_table(p, four):
-    """The table that leads (1, 0, 0), (0, 1, 0), (0, 0, 1) and (1, 1, 1) to the four points."""
-    # By these factors the first three add up to a multiple of the fourth one.
+    # By these factors the first three add up to a multiple of the fourth one,
+    # so this table leads (1, 0, 0), (0, 1, 0), (0, 0, 1) and (1, 1, 1) to the four.
     sides = (
         scaled(measure(p, four[3], four[1], four[2]), four[0]),
         scaled(measure(p, four[0], four[3], four[2]), four[1]),

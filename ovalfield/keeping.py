@@ -12,8 +12,8 @@ def keeps(p, curve, table):
 
 
 def frame_on(p, curve, three):
-    """A frame of three points of a whole curve: the first two, the meet of their tangents, the third."""
-    # No other curve goes through the three and has these two tangents, so who leads the frame leads the curve.
+    # The pole is the meet of the first two's tangents. No other curve goes through the three
+    # and has these tangents, so a table that leads the frame leads the curve.
     return [three[0], three[1], pole(p, curve, join(p, three[0], three[1])), three[2]]
 
 
@@ -34,8 +34,7 @@ def keeping(p, curve, three, goals):
     return frame_move(p, frame_on(p, curve, three), frame_on(p, curve, goals))
 
 
-def threes(points):
-    """All threes of unlike points, in every order."""
+def ordered_threes(points):
     rows = []
     for one in points:
         for other in points:
@@ -48,7 +47,7 @@ def all_keeping(p, curve):
     ask_whole(p, curve)
     points = points_of(p, curve)
     frame = frame_on(p, curve, points[:3])
-    return sorted([frame_move(p, frame, frame_on(p, curve, goals)) for goals in threes(points)])
+    return sorted([frame_move(p, frame, frame_on(p, curve, goals)) for goals in ordered_threes(points)])
 
 
 def curve_move(p, one, other):

@@ -7,7 +7,7 @@ from ovalfield.tables import sums_by
 
 
 def crossing(p, curve, points):
-    """The point that two lines have in common, of a curve that is these."""
+    # Of all points of two lines only the one on both has no polar: three noughts come there.
     rows = twice_table(p, curve)
     return [point for point in points if not any(sums_by(p, rows, point))][0]
 

@@ -5,7 +5,6 @@ from ovalfield.triples import one_form
 
 
 def picture_rows(p):
-    """All points by their places in a drawing."""
     rows = []
     for y in range(p - 1, -1, -1):
         rows.append([one_form(p, (x, y, 1)) for x in range(p)])

@@ -17,13 +17,12 @@ def on_any(p, point, lines):
 
 
 def still_fitting(p, points, further_point, left):
-    """Those of the points left that fit also when one further point is in the set."""
+    # Only the lines through the further point are new.
     lines = [join(p, point, further_point) for point in points]
     return [point for point in left if point != further_point and not on_any(p, point, lines)]
 
 
 def fitting(p, points):
-    """The sorted points that with the set make no three on a line."""
     left = triples(p)
     for place, point in enumerate(points):
         left = still_fitting(p, points[:place], point, left)

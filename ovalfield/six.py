@@ -7,7 +7,7 @@ from ovalfield.through import curve_through
 
 
 def side_meet(p, points, place):
-    """The meet of the side from that place on and the one opposite."""
+    # The opposite side begins three places on.
     one = join(p, points[place], points[place + 1])
     other = join(p, points[place + 3], points[(place + 4) % 6])
     return meet(p, one, other)

@@ -15,7 +15,6 @@ def first_four(p, points):
 
 
 def lines_multiplied(one, other):
-    """The six numbers of the curve that is two lines."""
     return (
         one[0] * other[0],
         one[1] * other[1],

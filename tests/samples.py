@@ -230,6 +230,18 @@ def twice_rows(p, curve):
     return tuple(tuple(n % p for n in row) for row in ((2 * a, d, e), (d, 2 * b, f), (e, f, 2 * c)))
 
 
+def leads(p, table, one, other):
+    """Whether the one curve moved by the table is the other, by their values at all points."""
+    factors = set()
+    for row in all_triples(p):
+        ahead, behind = value_by(p, one, row), value_by(p, other, sums(p, table, row))
+        if (ahead == 0) != (behind == 0):
+            return False
+        if ahead:
+            factors.add(behind * pow(ahead, p - 2, p) % p)
+    return len(factors) == 1
+
+
 def is_curve(p, thing):
     return is_row(p, thing, 6) and any(thing) and form(p, thing) == thing
 

@@ -2,7 +2,7 @@ import itertools
 import unittest
 
 from samples import (
-    EVEN, PRIMES, Draws, all_triples, curve_points, curves_of_all_sorts, is_table, led_by, measured, sums, value_by,
+    EVEN, PRIMES, Draws, all_triples, curve_points, curves_of_all_sorts, is_table, leads, led_by, measured, value_by,
     whole_curves,
 )
 
@@ -10,18 +10,6 @@ from ovalfield.curves import moved
 from ovalfield.errors import Alike, NoCount, NotOn, NotWhole
 from ovalfield.keeping import all_keeping, curve_move, keeping, keeps
 from ovalfield.tables import after, table_back
-
-
-def leads(p, table, one, other):
-    """Whether the one curve moved by the table is the other, by their values at all points."""
-    factors = set()
-    for row in all_triples(p):
-        ahead, behind = value_by(p, one, row), value_by(p, other, sums(p, table, row))
-        if (ahead == 0) != (behind == 0):
-            return False
-        if ahead:
-            factors.add(behind * pow(ahead, p - 2, p) % p)
-    return len(factors) == 1
 
 
 def all_tables_by_three():

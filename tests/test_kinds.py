@@ -2,25 +2,12 @@ import collections
 import unittest
 
 from samples import (
-    PRIMES, all_curves, all_triples, curve_points, curves_of_all_sorts, form, is_table, is_triple, led_by, lies,
-    multiplied, sums, three_on_a_line, value_by,
+    PRIMES, all_curves, all_triples, curve_points, curves_of_all_sorts, form, is_table, is_triple, leads, led_by,
+    lies, multiplied, three_on_a_line,
 )
 
 from ovalfield.curves import moved, plain_curve
 from ovalfield.kinds import kind
-
-
-def is_plain_moved(p, curve, table):
-    """Whether the table leads the plain curve to the curve, by values at all three rests of a few sorts."""
-    plain = (0, 1, 0, 0, p - 1, 0)
-    factors = set()
-    for row in all_triples(p):
-        ahead, behind = value_by(p, plain, row), value_by(p, curve, sums(p, table, row))
-        if (ahead == 0) != (behind == 0):
-            return False
-        if ahead:
-            factors.add(behind * pow(ahead, p - 2, p) % p)
-    return len(factors) == 1
 
 
 class TestKind(unittest.TestCase):
@@ -92,7 +79,7 @@ class TestKind(unittest.TestCase):
             self.assertEqual(told, ("whole", table))
             self.assertTrue(is_table(p, table))
             self.assertEqual(moved(p, plain_curve(p), table), curve)
-            self.assertTrue(is_plain_moved(p, curve, table))
+            self.assertTrue(leads(p, table, plain_curve(p), curve))
             self.assertEqual(sorted(led_by(p, table, point) for point in curve_points(p, plain_curve(p))), points)
         return told[0]
 

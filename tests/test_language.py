@@ -123,15 +123,19 @@ class TestLanguage(unittest.TestCase):
 
     def test_statements_and_expressions(self):
         for path in FILES:
-            for node in ast.walk(tree_of(path)):
+            tree = tree_of(path)
+            for node in ast.walk(tree):
                 where = (path.name, getattr(node, "lineno", 0))
                 self.assertIn(type(node).__name__, NODES, where)
                 if isinstance(node, ast.Assign):
                     self.assertEqual(len(node.targets), 1, where)
+                    self.assertNotIsInstance(node.targets[0], (ast.Tuple, ast.List), where)
                 if isinstance(node, (ast.For, ast.While)):
                     self.assertEqual(node.orelse, [], where)
                 if isinstance(node, ast.Try):
                     self.assertEqual(node.finalbody, [], where)
+                if isinstance(node, ast.Expr) and node is not tree.body[0]:
+                    self.assertIsInstance(node.value, ast.Call, where)
                 if isinstance(node, ast.ExceptHandler):
                     self.assertIsNotNone(node.type, where)
                 if isinstance(node, ast.ListComp):
